@@ -27,7 +27,7 @@ func feedAll(t *testing.T, feedings []feeding) {
 			t.Errorf("%d by %d fed %q: %q, cursor %d, %d, pending %v; want %q, %d, %d, %v", f.width, f.height, f.bytes, got, state.X, state.Y, state.Pending, f.want, f.x, f.y, f.pending)
 		}
 		pieces := made(t, f.width, f.height, oneByOne(f.bytes)...)
-		if pieces.State() != state || !slices.Equal(cells(t, pieces), cells(t, s)) {
+		if pieces.State() != state || !slices.Equal(cells(pieces), cells(s)) {
 			t.Errorf("%q byte by byte: %q, %+v", f.bytes, lines(pieces), pieces.State())
 		}
 	}
@@ -136,7 +136,7 @@ func TestP5Pens(t *testing.T) {
 		"\x1b[2;3;5;6;8;9;10;21m": {}, "\x1b[23;25;26;28;29;38;48;50m": {}, "\x1b[90;97;100;107;256;287;9999m": {}, "\x1b[1;1;1;1;1;1;1;4m": {Bold: true, Under: true}, "\x1b[1;1;1;1;1;1;1;4;7m": {}, "\x1b[?1m": {}, "\x1b[1 m": {}, "\x1b[01;004m": {Bold: true, Under: true},
 	} {
 		s := made(t, 4, 1, bytes, "x中")
-		got := cells(t, s)[:3]
+		got := cells(s)[:3]
 		if !slices.Equal(got, []api.Cell{{Rune: 'x', Pen: want}, {Rune: '中', Part: api.Head, Pen: want}, {Rune: '中', Part: api.Tail, Pen: want}}) || s.State().Pen != want {
 			t.Errorf("%q: %+v, want %+v", bytes, got, want)
 		}
@@ -165,12 +165,12 @@ func TestP5WhatIsErasedHasTheBack(t *testing.T) {
 	red := api.Cell{Rune: ' ', Pen: api.Pen{Back: 2}}
 	const paint = "\x1b[1;4;7;33;41m"
 	for _, bytes := range []string{"\x1b[2J", "\x1b[J", "\x1b[S\x1b[S", "\x1b[2T", "\x1b[9X\x1b[2H\x1b[K", "\x1b[2K\x1b[2;2H\x1b[1K", "\n\n\n"} {
-		got := cells(t, made(t, 2, 2, "abcd\x1b[H"+paint+bytes))
+		got := cells(made(t, 2, 2, "abcd\x1b[H"+paint+bytes))
 		if !slices.Equal(got, []api.Cell{red, red, red, red}) {
 			t.Errorf("%q: %+v", bytes, got)
 		}
 	}
-	got := cells(t, made(t, 2, 1, "ab"+paint+"中"))
+	got := cells(made(t, 2, 1, "ab"+paint+"中"))
 	pen := api.Pen{Front: 4, Back: 2, Bold: true, Under: true, Reverse: true}
 	if !slices.Equal(got, []api.Cell{{Rune: '中', Part: api.Head, Pen: pen}, {Rune: '中', Part: api.Tail, Pen: pen}}) {
 		t.Errorf("a line feed by a letter: %+v", got)
@@ -190,7 +190,7 @@ func TestP5WhatIsBrokenKeepsItsPen(t *testing.T) {
 		"\x1b[1;2H!":       {broken, {Rune: '!', Pen: api.Pen{Front: 4, Back: 6}}},
 		"\x1b[1;1H!":       {{Rune: '!', Pen: api.Pen{Front: 4, Back: 6}}, broken},
 	} {
-		if got := cells(t, made(t, 2, 1, "\x1b[4;31;42m中\x1b[0;33;45m"+bytes)); !slices.Equal(got, want) {
+		if got := cells(made(t, 2, 1, "\x1b[4;31;42m中\x1b[0;33;45m"+bytes)); !slices.Equal(got, want) {
 			t.Errorf("%q: %+v, want %+v", bytes, got, want)
 		}
 	}

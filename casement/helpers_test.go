@@ -1,6 +1,7 @@
 package casement_test
 
 import (
+	"slices"
 	"strings"
 	"testing"
 
@@ -21,38 +22,48 @@ func made(t *testing.T, width, height int, pieces ...string) *casement.Screen {
 	return s
 }
 
-// lines shows a screen's letters: a tail as a dot, lines apart by a bar.
-func lines(s *casement.Screen) string {
-	state := s.State()
-	shown := make([]string, state.Height)
-	for y := range shown {
-		for x := range state.Width {
-			if c, _ := s.Cell(x, y); c.Part == api.Tail {
+// celled is what has cells: a screen, or a desk by its picture.
+type celled interface {
+	Cell(x, y int) (api.Cell, api.Errno)
+}
+
+// rows tells all cells, line by line, up to the first places that there are not.
+func rows(c celled) [][]api.Cell {
+	var all [][]api.Cell
+	for y := 0; ; y++ {
+		var row []api.Cell
+		for x := 0; ; x++ {
+			cell, e := c.Cell(x, y)
+			if e != api.OK {
+				break
+			}
+			row = append(row, cell)
+		}
+		if row == nil {
+			return all
+		}
+		all = append(all, row)
+	}
+}
+
+// lines shows letters: a tail as a dot, lines apart by a bar.
+func lines(c celled) string {
+	all := rows(c)
+	shown := make([]string, len(all))
+	for y, row := range all {
+		for _, cell := range row {
+			if cell.Part == api.Tail {
 				shown[y] += "."
 			} else {
-				shown[y] += string(c.Rune)
+				shown[y] += string(cell.Rune)
 			}
 		}
 	}
 	return strings.Join(shown, "|")
 }
 
-// cells tells all cells of a screen, line behind line.
-func cells(t *testing.T, s *casement.Screen) []api.Cell {
-	t.Helper()
-	var all []api.Cell
-	state := s.State()
-	for y := range state.Height {
-		for x := range state.Width {
-			c, e := s.Cell(x, y)
-			if e != api.OK {
-				t.Fatalf("Cell(%d, %d): %d", x, y, e)
-			}
-			all = append(all, c)
-		}
-	}
-	return all
-}
+// cells tells all cells, line behind line.
+func cells(c celled) []api.Cell { return slices.Concat(rows(c)...) }
 
 // oneByOne cuts a text into its bytes.
 func oneByOne(text string) []string {

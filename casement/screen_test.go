@@ -28,10 +28,20 @@ func TestP4NewScreen(t *testing.T) {
 		if got, want := s.State(), (api.State{Width: size[0], Height: size[1], Bottom: size[1] - 1, Ground: true}); got != want {
 			t.Errorf("%v: %+v, want %+v", size, got, want)
 		}
-		for i, c := range cells(t, s) {
-			if c != (api.Cell{Rune: ' '}) {
-				t.Errorf("%v: cell %d: %+v", size, i, c)
-			}
+		checkPlain(t, s, size)
+	}
+}
+
+// checkPlain wants a size, and plain blanks alone.
+func checkPlain(t *testing.T, c celled, size [2]int) {
+	t.Helper()
+	all := rows(c)
+	if len(all) != size[1] || len(all[0]) != size[0] {
+		t.Errorf("%v: %d lines", size, len(all))
+	}
+	for i, cell := range cells(c) {
+		if cell != (api.Cell{Rune: ' '}) {
+			t.Errorf("%v: cell %d: %+v", size, i, cell)
 		}
 	}
 }
@@ -52,7 +62,7 @@ func TestP4WrongSizes(t *testing.T) {
 		if e := s.Resize(size[0], size[1]); e != api.ErrSize {
 			t.Errorf("Resize(%v): %d", size, e)
 		}
-		if s.State() != same.State() || !slices.Equal(cells(t, s), cells(t, same)) {
+		if s.State() != same.State() || !slices.Equal(cells(s), cells(same)) {
 			t.Errorf("Resize(%v) changed the screen: %+v", size, s.State())
 		}
 	}
@@ -95,7 +105,7 @@ func TestP4ResizeGivesPlainBlanks(t *testing.T) {
 	s.Resize(2, 2)
 	plain := api.Cell{Rune: ' '}
 	broken := api.Cell{Rune: ' ', Pen: api.Pen{Front: 2, Back: 5, Bold: true}}
-	if got := cells(t, s); !slices.Equal(got, []api.Cell{broken, plain, plain, plain}) {
+	if got := cells(s); !slices.Equal(got, []api.Cell{broken, plain, plain, plain}) {
 		t.Errorf("%+v", got)
 	}
 }
@@ -172,7 +182,7 @@ func TestP2ScreensApart(t *testing.T) {
 		one.Feed(b)
 		other.Feed("\x1b[41m" + b + "\x1b")
 	}
-	if one.State() != alone.State() || !slices.Equal(cells(t, one), cells(t, alone)) {
+	if one.State() != alone.State() || !slices.Equal(cells(one), cells(alone)) {
 		t.Errorf("%q, want %q", lines(one), lines(alone))
 	}
 }

@@ -32,7 +32,7 @@ func sound(s *casement.Screen) string {
 }
 
 // soundAt tells whether a cell has the other half that it must have, and a letter and a pen that may be.
-func soundAt(s *casement.Screen, x, y int) bool {
+func soundAt(s celled, x, y int) bool {
 	c, _ := s.Cell(x, y)
 	other := c
 	pen := 0 <= c.Pen.Front && c.Pen.Front < api.Colours && 0 <= c.Pen.Back && c.Pen.Back < api.Colours
@@ -119,7 +119,7 @@ func TestP6WhateverPieces(t *testing.T) {
 			pieces.Feed("")
 			rest = rest[n:]
 		}
-		if whole.State() != pieces.State() || !slices.Equal(cells(t, whole), cells(t, pieces)) {
+		if whole.State() != pieces.State() || !slices.Equal(cells(whole), cells(pieces)) {
 			t.Fatalf("%q: %q, in pieces %q", text, lines(whole), lines(pieces))
 		}
 	}
