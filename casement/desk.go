@@ -177,7 +177,12 @@ func (d *Desk) Cell(x int, y int) (api.Cell, api.Errno) {
 }
 
 // Flush tells the bytes that make a terminal show the picture (P11).
-func (d *Desk) Flush() string { return "" }
+func (d *Desk) Flush() string {
+	if d.isNone() {
+		return ""
+	}
+	return d.inner.Flush()
+}
 
 // find tells the window with a number, or nil.
 func (d *Desk) find(number int) *desk.Window {

@@ -215,6 +215,9 @@ func throw(d *dice, made int) thrown {
 	}
 }
 
+// resizing is the kind of call that a screen which shows the desk has to follow.
+const resizing = 7
+
 // call does one thing to a desk, and tells what is to be done to its model if the desk has taken it.
 func call(desk *casement.Desk, m *model, a thrown) (api.Errno, func(w *modelled)) {
 	switch a.kind {
@@ -236,7 +239,7 @@ func call(desk *casement.Desk, m *model, a thrown) (api.Errno, func(w *modelled)
 		return desk.Show(a.window, a.yes), func(w *modelled) { w.shown = a.yes }
 	case 6:
 		return desk.Give(a.window, a.parent), func(w *modelled) { w.parent = a.parent; m.lay(a.window, true) }
-	case 7:
+	case resizing:
 		return desk.Resize(a.width, a.height), func(*modelled) { m.at(0).shape(a.width, a.height) }
 	case 8:
 		return desk.Scroll(a.window, a.y), func(w *modelled) { w.scroll(a.y) }

@@ -4,17 +4,21 @@ package desk
 import (
 	"casement/api"
 	"casement/grid"
+	"casement/paint"
+	"casement/screen"
 )
 
-// Desk is the root with all windows in it.
+// Desk is the root with all windows in it, and what a terminal shows of them.
 type Desk struct {
-	root *Window
-	last int // the number that was given last: none comes twice, so the tree alone does not tell it
+	root  *Window
+	last  int            // the number that was given last: none comes twice, so the tree alone does not tell it
+	shown *screen.Screen // as one is that was fed all that Flush has told, and resized whenever the desk was
 }
 
 // New makes a desk of a size that may be, with the root alone.
 func New(width, height int) *Desk {
-	return &Desk{root: &Window{shown: true, cells: grid.New(width, height)}}
+	root := &Window{shown: true, cells: grid.New(width, height)}
+	return &Desk{root: root, shown: screen.New(width, height)}
 }
 
 // Window tells the window with a number, or nil.
@@ -32,7 +36,29 @@ func (d *Desk) Create(parent *Window, x, y, width, height int) int {
 }
 
 // Resize gives the desk, and so the root, another size that may be.
-func (d *Desk) Resize(width, height int) { d.root.Shape(width, height) }
+func (d *Desk) Resize(width, height int) {
+	d.root.Shape(width, height)
+	d.shown.Resize(width, height)
+}
+
+// Flush tells the bytes that make a terminal, which was told all from the first one on, show the picture.
+func (d *Desk) Flush() string {
+	bytes := paint.Bytes(d.shown, d.picture())
+	d.shown.Feed(bytes)
+	return bytes
+}
+
+// picture tells all cells of the picture, line by line.
+func (d *Desk) picture() [][]api.Cell {
+	lines := make([][]api.Cell, d.root.cells.Height())
+	for y := range lines {
+		lines[y] = make([]api.Cell, d.root.cells.Width())
+		for x := range lines[y] {
+			lines[y][x] = d.Cell(x, y)
+		}
+	}
+	return lines
+}
 
 // Has tells whether the picture has a cell at this place.
 func (d *Desk) Has(x, y int) bool { return d.root.cells.Has(x, y) }

@@ -2,6 +2,8 @@
 package grid
 
 import (
+	"slices"
+
 	"casement/api"
 	"casement/bounds"
 	"casement/letters"
@@ -28,6 +30,11 @@ func New(width, height int) *Grid {
 	g := &Grid{width: width, height: height, cells: make([]api.Cell, width*height)}
 	fill(g.cells, api.Pen{})
 	return g
+}
+
+// Clone makes another grid with the same cells.
+func (g *Grid) Clone() *Grid {
+	return &Grid{width: g.width, height: g.height, cells: slices.Clone(g.cells)}
 }
 
 // Width tells how many columns it has.

@@ -158,3 +158,17 @@ func TestHas(t *testing.T) {
 		}
 	}
 }
+
+func TestClone(t *testing.T) {
+	g := written(4, "a中b", "cd国")
+	clone := g.Clone()
+	clone.Put(0, 0, 'x', green)
+	clone.Scroll(0, 1, 1, green)
+	if got := text(g); got != "a中.b|cd国." {
+		t.Errorf("the first one: %q", got)
+	}
+	g.Resize(1, 1)
+	if got := text(clone); got != "cd国.|    " {
+		t.Errorf("the clone: %q", got)
+	}
+}

@@ -26,6 +26,13 @@ func New(width, height int) *Screen {
 	return &Screen{cells: grid.New(width, height), bottom: height - 1}
 }
 
+// Clone makes another screen that is like it in all.
+func (s *Screen) Clone() *Screen {
+	clone := *s
+	clone.cells = s.cells.Clone()
+	return &clone
+}
+
 // Resize gives it another size that may be. The pen, and a letter or a sequence that is begun, stay.
 func (s *Screen) Resize(width, height int) {
 	s.cells.Resize(width, height)
